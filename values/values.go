@@ -30,21 +30,7 @@ type Reader struct {
 }
 
 // Number reads a number.
-func (r *Reader) Number() int {
-	if r.Failed != api.OK {
-		return 0
-	}
-	v, n, e := wire.Uint(r.Input[r.Used:])
-	if e == api.OK && v > maxNumber {
-		e = api.ErrRange
-	}
-	if e != api.OK {
-		r.Failed = e
-		return 0
-	}
-	r.Used += n
-	return int(v)
-}
+func (r *Reader) Number() int { return read(r, number) }
 
 // Count reads how many elements follow, of which there may be most.
 func (r *Reader) Count(most int) int {
@@ -54,4 +40,31 @@ func (r *Reader) Count(most int) int {
 		return 0
 	}
 	return n
+}
+
+// Signed reads a signed integer.
+func (r *Reader) Signed() int64 { return read(r, wire.Int) }
+
+// Text reads a string.
+func (r *Reader) Text() string { return read(r, wire.String) }
+
+// read reads a value with a decoder that returns zero values together with an error.
+func read[V any](r *Reader, decode func(b []byte) (V, int, api.Errno)) V {
+	if r.Failed != api.OK {
+		var none V
+		return none
+	}
+	v, n, e := decode(r.Input[r.Used:])
+	r.Used += n
+	r.Failed = e
+	return v
+}
+
+// number decodes a number from the beginning of b.
+func number(b []byte) (int, int, api.Errno) {
+	v, n, e := wire.Uint(b)
+	if v > maxNumber {
+		return 0, 0, api.ErrRange
+	}
+	return int(v), n, e
 }

@@ -61,6 +61,60 @@ func TestReader(t *testing.T) {
 	}
 }
 
+// The texts and integers of an encoding lie between its numbers.
+func TestReaderOfTextsAndIntegers(t *testing.T) {
+	b := append(encoded(3), "ab\xff"...)
+	b = append(b, 0) // an empty text
+	b = binary.AppendVarint(b, -300)
+	b = binary.AppendVarint(b, math.MinInt64)
+	b = binary.AppendVarint(b, math.MaxInt64)
+	b = append(b, encoded(7, 1<<31)...)
+	r := Reader{Input: b}
+	if first, second := r.Text(), r.Text(); first != "ab\xff" || second != "" || r.Used != 5 {
+		t.Errorf("texts %q and %q from %d bytes", first, second, r.Used)
+	}
+	for _, want := range []int64{-300, math.MinInt64, math.MaxInt64} {
+		if got := r.Signed(); got != want {
+			t.Errorf("Signed = %d, want %d", got, want)
+		}
+	}
+	if n := r.Number(); n != 7 || r.Failed != api.OK {
+		t.Errorf("Number = %d, Failed is %v", n, r.Failed)
+	}
+	if n := r.Signed(); n != 1<<30 || r.Used != len(b) {
+		t.Errorf("Signed = %d, Used is %d of %d", n, r.Used, len(b))
+	}
+}
+
+func TestReaderErrorsOfTextsAndIntegers(t *testing.T) {
+	for _, x := range []struct {
+		name string
+		b    []byte
+		e    api.Errno
+	}{
+		{"the end", nil, api.ErrTruncated},
+		{"half a value", []byte{200}, api.ErrTruncated},
+		{"an overlong value", []byte{130, 0, 'a', 'b'}, api.ErrInvalid},
+		{"more than 64 bits", bytes.Repeat([]byte{255}, 10), api.ErrRange},
+	} {
+		text, signed := Reader{Input: append([]byte{5}, x.b...)}, Reader{Input: append([]byte{5}, x.b...)}
+		text.Number()
+		signed.Number()
+		if s := text.Text(); s != "" || text.Failed != x.e || text.Used != 1 {
+			t.Errorf("%s: a text %q, error %v, %d bytes", x.name, s, text.Failed, text.Used)
+		}
+		if n := signed.Signed(); n != 0 || signed.Failed != x.e || signed.Used != 1 {
+			t.Errorf("%s: an integer %d, error %v, %d bytes", x.name, n, signed.Failed, signed.Used)
+		}
+	}
+	for _, b := range [][]byte{{3, 'a', 'b'}, encoded(1 << 31), encoded(math.MaxUint64)} {
+		r := Reader{Input: b}
+		if s := r.Text(); s != "" || r.Failed != api.ErrTruncated || r.Used != 0 {
+			t.Errorf("Text of %v = %q, error %v, %d bytes", b, s, r.Failed, r.Used)
+		}
+	}
+}
+
 func TestReaderErrors(t *testing.T) {
 	for _, x := range []struct {
 		name string
@@ -101,9 +155,13 @@ func TestCountAboveMost(t *testing.T) {
 func TestFirstErrorStays(t *testing.T) {
 	r := Reader{Input: encoded(13, 1<<31, 5)}
 	r.Count(12)
+	used := r.Used
 	for range 3 {
 		if n, count := r.Number(), r.Count(1); n != 0 || count != 0 || r.Failed != api.ErrTooLong {
 			t.Errorf("behind an error: a number %d, a count %d, error %v", n, count, r.Failed)
+		}
+		if n, s := r.Signed(), r.Text(); n != 0 || s != "" || r.Failed != api.ErrTooLong || r.Used != used {
+			t.Errorf("behind an error: an integer %d, a text %q, error %v, %d bytes", n, s, r.Failed, r.Used)
 		}
 	}
 }
