@@ -30,7 +30,7 @@ type Reader struct {
 }
 
 // Number reads a number.
-func (r *Reader) Number() int { return read(r, number) }
+func (r *Reader) Number() int { return Read(r, number) }
 
 // Count reads how many elements follow, of which there may be most.
 func (r *Reader) Count(most int) int {
@@ -43,13 +43,16 @@ func (r *Reader) Count(most int) int {
 }
 
 // Signed reads a signed integer.
-func (r *Reader) Signed() int64 { return read(r, wire.Int) }
+func (r *Reader) Signed() int64 { return Read(r, wire.Int) }
 
 // Text reads a string.
-func (r *Reader) Text() string { return read(r, wire.String) }
+func (r *Reader) Text() string { return Read(r, wire.String) }
 
-// read reads a value with a decoder that returns zero values together with an error.
-func read[V any](r *Reader, decode func(b []byte) (V, int, api.Errno)) V {
+// Flag reads a boolean.
+func (r *Reader) Flag() bool { return Read(r, wire.Bool) }
+
+// Read reads a value with a decoder that returns zero values together with an error.
+func Read[V any](r *Reader, decode func(b []byte) (V, int, api.Errno)) V {
 	if r.Failed != api.OK {
 		var none V
 		return none

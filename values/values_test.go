@@ -152,6 +152,50 @@ func TestCountAboveMost(t *testing.T) {
 	}
 }
 
+func TestReaderOfFlags(t *testing.T) {
+	r := Reader{Input: []byte{1, 0, 1, 2, 1}}
+	for i, want := range []bool{true, false, true} {
+		if got := r.Flag(); got != want || r.Used != i+1 || r.Failed != api.OK {
+			t.Errorf("Flag %d = %v, error %v, %d bytes", i, got, r.Failed, r.Used)
+		}
+	}
+	for range 2 {
+		if r.Flag() || r.Failed != api.ErrInvalid || r.Used != 3 {
+			t.Errorf("Flag of 2: error %v, %d bytes", r.Failed, r.Used)
+		}
+	}
+	r = Reader{}
+	if r.Flag() || r.Failed != api.ErrTruncated {
+		t.Errorf("Flag of nothing: error %v", r.Failed)
+	}
+}
+
+// Read reads a value with the decoder that it is given.
+func TestRead(t *testing.T) {
+	half := func(b []byte) ([]byte, int, api.Errno) {
+		if len(b) < 2 {
+			return nil, 0, api.ErrOrder
+		}
+		return b[:2], len(b) / 2, api.OK
+	}
+	r := Reader{Input: []byte("abcdefg")}
+	for _, x := range []struct {
+		want string
+		used int
+		e    api.Errno
+	}{
+		{"ab", 3, api.OK}, {"de", 5, api.OK}, {"fg", 6, api.OK}, {"", 6, api.ErrOrder}, {"", 6, api.ErrOrder},
+	} {
+		if got := Read(&r, half); string(got) != x.want || r.Used != x.used || r.Failed != x.e {
+			t.Errorf("Read = %q, error %v, %d bytes", got, r.Failed, r.Used)
+		}
+	}
+	r.Failed = api.ErrTooLong
+	if got := Read(&r, func([]byte) (int, int, api.Errno) { return 5, 1, api.OK }); got != 0 || r.Used != 6 || r.Failed != api.ErrTooLong {
+		t.Errorf("Read behind an error = %d, error %v, %d bytes", got, r.Failed, r.Used)
+	}
+}
+
 func TestFirstErrorStays(t *testing.T) {
 	r := Reader{Input: encoded(13, 1<<31, 5)}
 	r.Count(12)
